@@ -1,0 +1,1 @@
+"""Scruplehouse: small doses weighed on a coarse balance."""
