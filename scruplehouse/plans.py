@@ -1,7 +1,7 @@
 """Plans: tuples (first, steps), steps being a tuple of pairs (filler, part), and what comes of them."""
 
-from scruplehouse.ratios import fraction, under
-from scruplehouse.rooms import PURE, least_mixture, mixed, product, weighed
+from scruplehouse.ratios import fraction
+from scruplehouse.rooms import PURE, is_there, least_mixture, mixed, product, weighed
 
 
 def span(plan, error):
@@ -29,11 +29,16 @@ def numbers_of(plan):
     return numbers
 
 
+def last_of(plan):
+    """What the plan weighs last."""
+    return numbers_of(plan)[-1]
+
+
 def parts_are_there(plan, error):
     """Whether each part, weighed too large, is no more than its mixture if this was weighed too small."""
     last = plan[0]
     for filler, part in plan[1]:
-        if under(least_mixture(last, filler, error), weighed(part, error)[1]):
+        if not is_there(part, least_mixture(last, filler, error), error):
             return False
         last = part
     return True

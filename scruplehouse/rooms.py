@@ -3,7 +3,7 @@
 The error is less than each number that is weighed, so no room here reaches down to 0.
 """
 
-from scruplehouse.ratios import fraction, minus, over, plus, times
+from scruplehouse.ratios import fraction, minus, over, plus, times, under
 
 # How many grains of the stuff are in a grain of it, ahead of any mixing.
 PURE = ((1, 1), (1, 1))
@@ -37,3 +37,13 @@ def mixed(strength, last, filler, error):
 def least_mixture(last, filler, error):
     """The least that the mixture of what was weighed last and the filler may weigh."""
     return plus(weighed(last, error)[0], weighed(filler, error)[0])
+
+
+def is_there(part, weight, error):
+    """Whether a part, weighed too large, is no more than a mixture that weighs this at least."""
+    return not under(weight, weighed(part, error)[1])
+
+
+def lies_within(room, wanted):
+    """Whether the room reaches beyond what is wanted at neither end."""
+    return not under(room[0], wanted[0]) and not under(wanted[1], room[1])

@@ -1,4 +1,4 @@
-"""The form of the code: many of the rules L1 to L28, not all (L13, L19, L23 and L24 among those left out)."""
+"""The form of the code: many of the rules L1 to L28, not all (L13, L19 and parts of others are left out)."""
 
 import ast
 import builtins
@@ -181,6 +181,33 @@ class Form(unittest.TestCase):
             named = node.type.elts if isinstance(node.type, ast.Tuple) else [node.type]
             for name in named:
                 self.assertNotIn(name.id, ("Exception", "TypeError"), spot)
+
+    def parents(self):
+        return {child: node for tree in self.trees.values() for node in ast.walk(tree)
+                for child in ast.iter_child_nodes(node)}
+
+    def test_walked_at_once(self):
+        parents = self.parents()
+        for spot, node in self.nodes(ast.Call):
+            name = getattr(node.func, "id", None) or getattr(node.func, "attr", None)
+            if name not in ("zip", "enumerate", "reversed", "range", "items", "keys", "values"):
+                continue
+            outer = parents[node]
+            if isinstance(outer, (ast.For, ast.comprehension)):
+                self.assertIs(outer.iter, node, spot)
+            else:
+                self.assertIsInstance(outer, ast.Call, spot)
+                self.assertIs(outer.args[0], node, spot)
+                self.assertIn(outer.func.id, "list tuple dict sorted sum any all enumerate zip".split(), spot)
+
+    def test_sets_are_not_kept(self):
+        parents = self.parents()
+        for spot, node in self.nodes(ast.Call):
+            if isinstance(node.func, ast.Name) and node.func.id in ("set", "frozenset"):
+                outer = parents[node]
+                self.assertIsInstance(outer, ast.Call, spot)
+                self.assertIn(outer.func.id, ("sorted", "len"), spot)
+                self.assertEqual(outer.keywords, [], spot)
 
 
 if __name__ == "__main__":
