@@ -34,6 +34,11 @@ def last_of(plan):
     return numbers_of(plan)[-1]
 
 
+def fillers_of(plan):
+    """How many grains of filler the plan weighs."""
+    return sum([filler for filler, part in plan[1]])
+
+
 def parts_are_there(plan, error):
     """Whether each part, weighed too large, is no more than its mixture if this was weighed too small."""
     last = plan[0]
@@ -53,6 +58,5 @@ def can_be_done(plan, amounts, error):
 
 def price_of(plan, prices):
     """What the plan costs: its stuff, its fillers, and one weighing and two more for each step."""
-    fillers = sum([filler for filler, part in plan[1]])
     weighings = 1 + 2 * len(plan[1])
-    return prices[0] * plan[0] + prices[1] * fillers + prices[2] * weighings
+    return prices[0] * plan[0] + prices[1] * fillers_of(plan) + prices[2] * weighings

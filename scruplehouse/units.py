@@ -1,13 +1,13 @@
 """Old weights: amounts, which are fractions above 0 counted in grains, read from words and shown in words."""
 
 from scruplehouse.errors import NoAmount, NoNumber
+from scruplehouse.figures import plain_fraction, show_fraction
 from scruplehouse.numerals import number_of, numeral
 from scruplehouse.ratios import fraction, plus
 
 UNITS = ("lb", "oz", "dr", "sc", "gr")
 GRAINS = (5760, 480, 60, 20, 1)
 HALF_WORD = "ss"
-FIGURES = "0123456789"
 MOST_FIGURES = 3
 GREATEST_BOTTOM = 999
 TOO_MANY_POUNDS = 400
@@ -27,27 +27,12 @@ def written_number(word):
         return None
 
 
-def small_number(text):
-    """The number that one to three figures write, the first one no 0; None for another text."""
-    if text == "" or len(text) > MOST_FIGURES or text[0] == "0":
-        return None
-    if not all([sign in FIGURES for sign in text]):
-        return None
-    return int(text)
-
-
 def written_fraction(word):
-    """The fraction below 1 that TOP/BOTTOM writes in lowest terms, None for another word."""
-    halves = word.split("/")
-    if len(halves) != 2:
+    """The fraction above 0 and below 1 that TOP/BOTTOM writes in lowest terms, None for another word."""
+    found = plain_fraction(word, MOST_FIGURES)
+    if found is None or found[0] == 0 or found[0] >= found[1]:
         return None
-    top = small_number(halves[0])
-    bottom = small_number(halves[1])
-    if top is None or bottom is None or top >= bottom:
-        return None
-    if fraction(top, bottom) != (top, bottom):
-        return None
-    return (top, bottom)
+    return found
 
 
 def part_of_unit(word, place):
@@ -122,7 +107,7 @@ def show_rest(top, bottom):
         return []
     if (top, bottom) == (1, 2):
         return [HALF_WORD]
-    return [f"{top}/{bottom}"]
+    return [show_fraction((top, bottom))]
 
 
 def show_amount(amount):
