@@ -3,6 +3,7 @@
 import unittest
 
 from scruplehouse.desk import Desk
+from scruplehouse.deskwords import show_plan
 from scruplehouse.errors import NoAmount, NoLoad, NoPlan, NoRecipe, NoRow, NoStock
 from scruplehouse.numerals import numeral
 
@@ -102,6 +103,10 @@ class Plan(Case):
         for amount, told in (("gr v", "5"), ("dr ss", "30"), ("gr j 2/3", "5 10+5"), ("gr 5/21", "5 10+5 30+5"),
                              ("gr v 1/11", "none"), ("lb j", "none")):
             self.assertEqual(desk.say(f"plan {amount}"), told)
+
+    def test_a_written_plan(self):
+        # No settings tell this one, as another with the same numbers is cheaper or ahead of it.
+        self.assertEqual(show_plan((10, ((20, 5), (30, 5)))), "10 20+5 30+5")
 
     def test_it_changes_nothing(self):
         desk = desk_of(*FULL)
